@@ -1,0 +1,1 @@
+"""Foldandbound: a print shop, from the flat sheet to the bound book."""
