@@ -1,7 +1,7 @@
 """Orders of layers that folds give (part 4)."""
 
 from foldandbound.folding import AXES, PARTS, PLACES, flat, folded, full_pile, is_one_place
-from foldandbound.forms import is_between, is_tuple_of
+from foldandbound.forms import is_natural, is_tuple_of
 from foldandbound.reading import check_pages, lay_of_pile
 from foldandbound.sheets import panels
 
@@ -22,9 +22,7 @@ def is_order(size, value):
     if not is_tuple_of(value, rows * columns):
         return False
     for panel in value:
-        if not is_tuple_of(panel, 2):
-            return False
-        if not is_between(panel[0], 0, rows - 1) or not is_between(panel[1], 0, columns - 1):
+        if not is_tuple_of(panel, 2) or not is_natural(panel[0]) or not is_natural(panel[1]):
             return False
     return sorted(value) == panels(size)
 

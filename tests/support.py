@@ -4,7 +4,6 @@ The model says in another way what parts 1, 2 and 8 of the document say: each pa
 square with coordinates, which motions and folds reflect. It shares no code with the program.
 """
 
-import contextlib
 import copy
 import signal
 import unittest
@@ -70,7 +69,19 @@ def is_strictly(value, wanted):
 
 
 class ShopCase(unittest.TestCase):
-    """Tests with strict comparisons: True is not 1, and a list is not a tuple."""
+    """Tests with strict comparisons: True is not 1, and a list is not a tuple.
+
+    Each test has to end soon; all calls in them have the sizes for which the document says so.
+    """
+
+    SECONDS = 120
+
+    def setUp(self):
+        def late(number, frame):
+            raise AssertionError(f"not ended after {self.SECONDS} seconds")
+        self.addCleanup(signal.signal, signal.SIGALRM, signal.signal(signal.SIGALRM, late))
+        self.addCleanup(signal.alarm, 0)
+        signal.alarm(self.SECONDS)
 
     def same(self, value, wanted, told=None):
         if not is_strictly(value, wanted):
@@ -139,20 +150,6 @@ def spoil(value):
             spoil(part)
     if isinstance(value, list):
         value.append("spoilt")
-
-
-@contextlib.contextmanager
-def soon(seconds=60):
-    """Fail if what stands inside does not end in some seconds."""
-    def late(number, frame):
-        raise AssertionError(f"not ended after {seconds} seconds")
-    old = signal.signal(signal.SIGALRM, late)
-    signal.alarm(seconds)
-    try:
-        yield
-    finally:
-        signal.alarm(0)
-        signal.signal(signal.SIGALRM, old)
 
 
 class Paper:
@@ -299,7 +296,7 @@ def lay_seen(paper, content):
 def all_folds(rows, columns):
     """All folds of a stack of so many rows and columns, in the order of Python."""
     lines = [("column", line) for line in range(1, columns)] + [("row", line) for line in range(1, rows)]
-    return [(axis, line, part, place) for axis, line in lines for part in ("high", "low") for place in ("over", "under")]
+    return [line + (part, place) for line in lines for part in ("high", "low") for place in ("over", "under")]
 
 
 def random_folds(rng, size, full=True):
@@ -348,3 +345,189 @@ def full_rows(size):
 
     go(size[0], size[1], ())
     return found
+
+
+class PaperShop:
+    """What a job book does with paper: stacks under names, and what was printed on."""
+
+    def __init__(self):
+        self.papers = {}
+        self.prints = {}
+        self.sheets = 0
+
+    def do(self, step):
+        """Do a step; False, and nothing is changed, if it cannot be done."""
+        kind, name, rest = step[0], step[1], step[2:]
+        if (name in self.papers) == (kind == "sheet"):
+            return False
+        return getattr(self, "do_" + kind)(name, *rest)
+
+    def do_sheet(self, name, size):
+        self.papers[name] = Paper.flat(size, self.sheets)
+        self.sheets += 1
+        return True
+
+    def do_print(self, name, plate):
+        paper = self.papers[name]
+        if len(paper.leaves) != paper.rows() * paper.columns():
+            return False
+        found = {}
+        for key, (x, y, _, right, down) in paper.leaves.items():
+            found[key + ("front" if right == down else "back",)] = (plate, (y, x), int(down < 0))
+        if set(found) & set(self.prints):
+            return False
+        self.prints.update(found)
+        return True
+
+    def do_turn(self, name, motion):
+        self.papers[name] = self.papers[name].moved(motion)
+        return True
+
+    def do_fold(self, name, fold):
+        paper = self.papers[name].folded(fold)
+        if paper is None:
+            return False
+        self.papers[name] = paper
+        return True
+
+    def do_cut(self, name, axis, line, other):
+        if other in self.papers or not self.papers[name].has_line(axis, line):
+            return False
+        self.papers[name], self.papers[other] = self.papers[name].cut(axis, line)
+        return True
+
+    def do_lay(self, name, other):
+        if name == other or other not in self.papers:
+            return False
+        lower, upper = self.papers[name], self.papers[other]
+        if (lower.rows(), lower.columns()) != (upper.rows(), upper.columns()):
+            return False
+        self.papers[name] = lower.under(upper)
+        del self.papers[other]
+        return True
+
+    def book(self):
+        """The paper of the book, or None if there is none of one place."""
+        paper = self.papers.get("book")
+        if paper is None or (paper.rows(), paper.columns()) != (1, 1):
+            return None
+        return paper
+
+    def makes(self):
+        """What is read in the book, or None if there is no book."""
+        if self.book() is None:
+            return None
+        found = []
+        for side, flip in self.book().read():
+            if side in self.prints:
+                plate, (row, column), spin = self.prints[side]
+                found.append((plate, row, column, flip ^ spin))
+            else:
+                found.append(None)
+        return found
+
+
+def shop_after(job):
+    """The shop after a job book, and the number of the first step that cannot be done, or None."""
+    shop = PaperShop()
+    for at, step in enumerate(job):
+        if not shop.do(step):
+            return shop, at
+    return shop, None
+
+
+def made_by(job):
+    """What a job book makes: a list, `NoBook`, or the number of the first bad step."""
+    shop, bad = shop_after(job)
+    if bad is not None:
+        return bad
+    made = shop.makes()
+    return "NoBook" if made is None else made
+
+
+def random_step(rng, names=("book", "a", "b"), plates=("p", "q")):
+    """A random step, which often cannot be done."""
+    kind = rng.choice(("sheet", "print", "turn", "fold", "cut", "lay"))
+    name, other = rng.choice(names), rng.choice(names)
+    axis = rng.choice(("column", "row"))
+    return {
+        "sheet": ("sheet", name, rng.choice([(1, 1), (1, 2), (2, 1), (2, 2), (1, 3), (3, 2)])),
+        "print": ("print", name, rng.choice(plates)),
+        "turn": ("turn", name, rng.choice(MOTIONS)),
+        "fold": ("fold", name, (axis, rng.choice((1, 1, 1, 2, 3)), rng.choice(("low", "high")),
+                                rng.choice(("over", "under")))),
+        "cut": ("cut", name, axis, rng.choice((1, 1, 1, 2, 3)), other),
+        "lay": ("lay", name, other),
+    }[kind]
+
+
+def random_job(rng, most, luck=0.9):
+    """A random job book of which most steps, but not always all, can be done."""
+    shop = PaperShop()
+    job = []
+    while len(job) < most:
+        step = random_step(rng)
+        if shop.do(step):
+            job.append(step)
+        elif rng.random() > luck and rng.random() < 0.02:
+            job.append(step)
+            break
+        elif not shop.papers and rng.random() < 0.5:
+            shop.do(("sheet", "book", (2, 2)))
+            job.append(("sheet", "book", (2, 2)))
+    return tuple(job)
+
+
+def printed_both_sides(rng, name, size, plates):
+    """Steps that print a new sheet on one or both sides, or not, and leave it turned somehow."""
+    steps = [("sheet", name, size)]
+    for _ in range(rng.choice((0, 1, 2, 2, 2))):
+        steps.append(("print", name, rng.choice(plates)))
+        steps.append(("turn", name, rng.choice(("turn", "tumble"))))
+    if rng.random() < 0.5:
+        steps.append(("turn", name, rng.choice(MOTIONS)))
+    return steps
+
+
+def to_one_place(rng, name, paper):
+    """Steps that fold, or cut and lay, a paper until one place is left; and the paper then."""
+    shop = PaperShop()
+    shop.papers[name] = paper
+    steps = []
+    while (shop.papers[name].rows(), shop.papers[name].columns()) != (1, 1):
+        fold = rng.choice(all_folds(shop.papers[name].rows(), shop.papers[name].columns()))
+        row = [("fold", name, fold)]
+        if rng.random() < 0.3:
+            cut = ("cut", name, fold[0], fold[1], "half")
+            row = [cut, ("turn", "half", rng.choice(MOTIONS)), ("lay", name, "half")]
+            many = shop.papers[name].columns() if fold[0] == "column" else shop.papers[name].rows()
+            if many != 2 * fold[1]:
+                continue
+        for step in row:
+            assert shop.do(step)
+            steps.append(step)
+    return steps
+
+
+def random_book(rng, sheets=3, plates=("p", "q", "r")):
+    """A random job book that can be done and makes something."""
+    job = []
+    names = ["book", "a", "b", "c"][:rng.randint(1, sheets)]
+    for name in names:
+        steps = printed_both_sides(rng, name, rng.choice([(1, 1), (1, 2), (2, 1), (2, 2), (1, 3), (3, 2)]), plates)
+        shop, bad = shop_after(steps)
+        if bad is not None:
+            steps = steps[:bad]
+            shop, _ = shop_after(steps)
+        job += steps + to_one_place(rng, name, shop.papers[name])
+    for name in names[1:]:
+        job.append(("lay", "book", name))
+        if rng.random() < 0.3:
+            job.append(("turn", "book", rng.choice(MOTIONS)))
+    return tuple(job)
+
+
+def random_plates(rng, words=("p", "q", "r")):
+    """Random plates for some words, some of them too small for what is printed with them."""
+    sizes = [(1, 1), (1, 2), (2, 2), (3, 3)]
+    return {word: random_plate(rng, rng.choice(sizes)) for word in words if rng.random() < 0.8}

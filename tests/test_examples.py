@@ -3,6 +3,8 @@
 import doctest
 import unittest
 
+from tests.support import ShopCase
+
 SHEETS = '''
 >>> from foldandbound.sheets import after_turn, side_up, spun
 >>> after_turn((1, 0), "tumble")
@@ -33,8 +35,36 @@ ORDERS = '''
 [((0, 0), (0, 1)), ((0, 1), (0, 0))]
 '''
 
+STRIPS = '''
+>>> from foldandbound.strips import crossing, kinds_of, strip_orders
+>>> len(strip_orders(4))
+16
+>>> crossing((0, 2, 1, 3))
+(0, 2)
+>>> kinds_of((0, 2, 1))
+('mountain', 'mountain')
+'''
 
-class TestExamples(unittest.TestCase):
+SECTIONS = '''
+>>> from foldandbound.sections import best_sections, nested_pages
+>>> best_sections(21, (4, 8, 16))
+[16, 8]
+>>> nested_pages(2)
+[(8, 1, 2, 7), (6, 3, 4, 5)]
+'''
+
+JOBS = '''
+>>> J = (("sheet", "book", (1, 2)), ("print", "book", "p"), ("turn", "book", "turn"), ("print", "book", "q"), \
+("turn", "book", "turn"), ("fold", "book", ("column", 1, "low", "over")))
+>>> from foldandbound.jobs import makes, plates_of
+>>> makes(J)
+[('q', 0, 1, 0), ('p', 0, 0, 0), ('p', 0, 1, 0), ('q', 0, 0, 0)]
+>>> plates_of(J, 4) == {"p": (((2, 0), (3, 0)),), "q": (((4, 0), (1, 0)),)}
+True
+'''
+
+
+class TestExamples(ShopCase):
     def holds(self, text):
         told = []
         test = doctest.DocTestParser().get_doctest(text, {}, "example", None, 0)
@@ -53,6 +83,15 @@ class TestExamples(unittest.TestCase):
 
     def test_orders(self):
         self.holds(ORDERS)
+
+    def test_strips(self):
+        self.holds(STRIPS)
+
+    def test_sections(self):
+        self.holds(SECTIONS)
+
+    def test_jobs(self):
+        self.holds(JOBS)
 
 
 if __name__ == "__main__":

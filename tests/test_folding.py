@@ -6,7 +6,7 @@ import unittest
 from foldandbound.errors import BadFold
 from foldandbound.folding import all_folded, creases, flat, folded, is_fold, is_full, is_stack, turned
 from tests.support import (
-    MOTIONS, Paper, ShopCase, all_folds, full_rows, paper_folded, random_folds, small_sizes, soon)
+    MOTIONS, Paper, ShopCase, all_folds, full_rows, paper_folded, random_folds, small_sizes)
 
 LAYER = (0, 0, 0, 0, 0)
 A, B, C, D = (0, 0, 0, 0, 0), (0, 0, 1, 0, 0), (0, 0, 2, 0, 0), (0, 0, 3, 0, 0)
@@ -305,13 +305,12 @@ class TestSoon(ShopCase):
 
     def test_sheets_of_16_panels(self):
         rng = random.Random(26)
-        with soon():
-            for size in ((1, 16), (16, 1), (2, 8), (8, 2), (4, 4)):
-                for _ in range(5):
-                    folds = random_folds(rng, size)
-                    self.true(is_full(size, folds))
-                    self.same(all_folded(size, folds), paper_folded(size, folds).stack())
-                    self.same(creases(size, folds), creases_of_paper(size, folds))
+        for size in ((1, 16), (16, 1), (2, 8), (8, 2), (4, 4)):
+            for _ in range(5):
+                folds = random_folds(rng, size)
+                self.true(is_full(size, folds))
+                self.same(all_folded(size, folds), paper_folded(size, folds).stack())
+                self.same(creases(size, folds), creases_of_paper(size, folds))
 
 
 if __name__ == "__main__":

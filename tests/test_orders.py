@@ -8,7 +8,7 @@ from foldandbound.errors import BadFold, TooMany
 from foldandbound.orders import fewest_folds, folds_to, is_order, lays_for, order_of, orders
 from foldandbound.reading import laying
 from foldandbound.sheets import is_lay
-from tests.support import ShopCase, full_rows, paper_folded, random_folds, small_sizes, soon
+from tests.support import ShopCase, full_rows, paper_folded, random_folds, small_sizes
 
 OVER = ("column", 1, "low", "over")
 
@@ -156,27 +156,24 @@ class TestSoon(ShopCase):
     """Point 0.2: sheets of 6 panels."""
 
     def test_sheets_of_6_panels(self):
-        with soon():
-            for size in ((1, 6), (6, 1), (2, 3), (3, 2)):
-                some = orders(size)
-                self.same(folds_to(size, some[0]) is None, False)
-                self.same(folds_to(size, some[-1]) is None, False)
-                self.same(len(lays_for(size, 12)) > len(some), True)
-                fewest_folds(size)
+        for size in ((1, 6), (6, 1), (2, 3), (3, 2)):
+            some = orders(size)
+            self.same(folds_to(size, some[0]) is None, False)
+            self.same(folds_to(size, some[-1]) is None, False)
+            self.same(len(lays_for(size, 12)) > len(some), True)
+            fewest_folds(size)
 
     def test_all_orders_of_6_panels_in_a_row(self):
         panels = [(0, c) for c in range(6)]
-        with soon():
-            given = [order for order in itertools.permutations(panels) if folds_to((1, 6), order) is not None]
+        given = [order for order in itertools.permutations(panels) if folds_to((1, 6), order) is not None]
         self.same(given, orders((1, 6)))
 
     def test_order_of_16_panels(self):
         rng = random.Random(42)
-        with soon():
-            for size in ((1, 16), (16, 1), (4, 4), (2, 8)):
-                folds = random_folds(rng, size)
-                self.same(order_of(size, folds), top_down(size, folds))
-                self.true(is_order(size, order_of(size, folds)))
+        for size in ((1, 16), (16, 1), (4, 4), (2, 8)):
+            folds = random_folds(rng, size)
+            self.same(order_of(size, folds), top_down(size, folds))
+            self.true(is_order(size, order_of(size, folds)))
 
 
 if __name__ == "__main__":

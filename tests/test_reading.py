@@ -8,7 +8,7 @@ from foldandbound.folding import all_folded, flat
 from foldandbound.reading import alike_folds, faces_of, first_wrong, is_right, laying, motion_between, reading
 from foldandbound.sheets import is_lay, turned_lay
 from tests.support import (
-    MOTIONS, Paper, ShopCase, content_of, full_rows, paper_folded, random_folds, random_lay, small_sizes, soon)
+    MOTIONS, Paper, ShopCase, content_of, full_rows, paper_folded, random_folds, random_lay, small_sizes)
 
 OVER = ("column", 1, "low", "over")
 UNDER = ("column", 1, "low", "under")
@@ -64,7 +64,8 @@ class TestReading(ShopCase):
         for _ in range(200):
             size = rng.choice(small_sizes(16))
             first = paper_folded(size, random_folds(rng, size))
-            second = Paper({(5,) + key[1:]: leaf for key, leaf in paper_folded(size, random_folds(rng, size)).leaves.items()})
+            leaves = paper_folded(size, random_folds(rng, size)).leaves
+            second = Paper({(5,) + key[1:]: leaf for key, leaf in leaves.items()})
             both = first.under(second).moved(rng.choice(MOTIONS))
             lays = {0: random_lay(rng, size), 5: random_lay(rng, size), 9: random_lay(rng, (1, 1))}
             contents = {number: content_of(lay) for number, lay in lays.items()}
@@ -270,13 +271,12 @@ class TestSoon(ShopCase):
 
     def test_sheets_of_16_panels(self):
         rng = random.Random(36)
-        with soon():
-            for size in ((1, 16), (16, 1), (2, 8), (8, 2), (4, 4)):
-                first, second = random_folds(rng, size), random_folds(rng, size)
-                self.true(is_right(reading({0: laying(size, first, 32)}, pile_of(size, first)), 32))
-                wanted = pile_readings_equal(paper_folded(size, first), paper_folded(size, second))
-                self.same(alike_folds(size, first, second), wanted)
-                motion_between(size, first, second)
+        for size in ((1, 16), (16, 1), (2, 8), (8, 2), (4, 4)):
+            first, second = random_folds(rng, size), random_folds(rng, size)
+            self.true(is_right(reading({0: laying(size, first, 32)}, pile_of(size, first)), 32))
+            wanted = pile_readings_equal(paper_folded(size, first), paper_folded(size, second))
+            self.same(alike_folds(size, first, second), wanted)
+            motion_between(size, first, second)
 
 
 if __name__ == "__main__":
