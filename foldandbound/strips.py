@@ -7,9 +7,14 @@ from foldandbound.orders import folds_to
 LONGEST_STRIP = 12
 
 
+def is_strip_length(n):
+    """Tell whether there are strips of n panels."""
+    return 1 <= n <= LONGEST_STRIP
+
+
 def is_strip(value):
     """Tell whether any value is a strip order."""
-    if type(value) is not tuple or not 1 <= len(value) <= LONGEST_STRIP:
+    if type(value) is not tuple or not is_strip_length(len(value)):
         return False
     if not all(is_natural(panel) for panel in value):
         return False
@@ -52,14 +57,16 @@ def grown_without_test(order):
 
 
 def grown(order):
-    """Return the ascending list of the orders with one panel more at the end that can be folded."""
-    if crossing(order) is not None:
+    """Return the ascending list of the strip orders with one panel more at the end that can be folded."""
+    if not is_strip_length(len(order) + 1) or crossing(order) is not None:
         return []
     return grown_without_test(order)
 
 
 def strip_orders(n):
-    """Return the ascending list of all orders of n panels that can be folded."""
+    """Return the ascending list of all strip orders of n panels that can be folded."""
+    if not is_strip_length(n):
+        return []
     found = [()]
     for _ in range(n):
         found = [longer for order in found for longer in grown_without_test(order)]

@@ -113,6 +113,19 @@ class TestStripOrders(ShopCase):
         found = [longer for order in strip_orders(6) for longer in grown(order)]
         self.same(sorted(found), strip_orders(7))
 
+    def test_strips_have_at_most_12_panels(self):
+        for order in (tuple(range(12)), tuple(range(12))[::-1], tuple(range(1, 12)) + (0,)):
+            self.true(is_strip(order))
+            self.same(crossing(order) is None, True)
+            self.same(self.pure(grown, order), [])
+        for order in (tuple(range(11)), tuple(range(11))[::-1]):
+            found = grown(order)
+            self.true(len(found) > 1 and all(is_strip(longer) for longer in found))
+            self.same(sorted(tuple(i for i in longer if i != 11) for longer in found), [order] * len(found))
+        self.same(grown(tuple(range(13))), [])
+        self.same(strip_orders(13), [])
+        self.same(strip_orders(0), [])
+
     def test_kinds(self):
         self.same(kinds_of((0,)), ())
         self.same(kinds_of((0, 1)), ("mountain",))
