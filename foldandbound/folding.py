@@ -2,7 +2,7 @@
 
 from foldandbound.errors import BadFold
 from foldandbound.forms import is_between, is_natural, is_one_of, is_tuple_of
-from foldandbound.sheets import LONGEST_EDGE, after_turn, panels, side_up
+from foldandbound.sheets import LONGEST_EDGE, after_turn, side_up
 
 AXES = ("column", "row")
 PARTS = ("high", "low")

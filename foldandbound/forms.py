@@ -8,6 +8,11 @@ LETTERS = "abcdefghijklmnopqrstuvwxyz"
 LONGEST_WORD = 12
 
 
+def is_integer(value):
+    """Tell whether any value is an integer."""
+    return type(value) is int
+
+
 def is_between(value, low, high):
     """Tell whether any value is an integer from low to high."""
     return type(value) is int and low <= value <= high
@@ -21,6 +26,11 @@ def is_natural(value):
 def is_tuple_of(value, many):
     """Tell whether any value is a tuple of so many items."""
     return type(value) is tuple and len(value) == many
+
+
+def is_tagged(value, word, many):
+    """Tell whether any value is a tuple of so many items that begins with a word."""
+    return is_tuple_of(value, many) and type(value[0]) is str and value[0] == word
 
 
 def is_one_of(value, words):

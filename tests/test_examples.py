@@ -63,6 +63,39 @@ JOBS = '''
 True
 '''
 
+LAYOUTS = '''
+>>> from foldandbound.layouts import can_be_cut
+>>> can_be_cut(((3, 3), ((0, 0, 2, 1), (2, 0, 1, 2), (1, 2, 2, 1), (0, 1, 1, 2))))
+False
+'''
+
+TABLES = '''
+>>> from foldandbound.tables import most_pieces
+>>> most_pieces(2, 3, True, (5, 5))
+3
+'''
+
+PILECUTS = '''
+>>> from foldandbound.pilecuts import fewest_steps, parted
+>>> fewest_steps(5)
+3
+>>> parted(5, (2, 1))
+[2, 1, 1, 1]
+'''
+
+LABELS = '''
+>>> from foldandbound.labels import fewest_sheets
+>>> fewest_sheets((100, 50, 50), 4, 1)
+50
+'''
+
+FLOWS = '''
+>>> from foldandbound.flows import least_supply
+>>> least_supply(("gather", 2, (("run", 5, ("paper", "a")), \
+("split", 2, ("run", 1, ("paper", "b"))))), 10) == {"a": 17, "b": 7}
+True
+'''
+
 
 class TestExamples(ShopCase):
     def holds(self, text):
@@ -92,6 +125,21 @@ class TestExamples(ShopCase):
 
     def test_jobs(self):
         self.holds(JOBS)
+
+    def test_layouts(self):
+        self.holds(LAYOUTS)
+
+    def test_tables(self):
+        self.holds(TABLES)
+
+    def test_pilecuts(self):
+        self.holds(PILECUTS)
+
+    def test_labels(self):
+        self.holds(LABELS)
+
+    def test_flows(self):
+        self.holds(FLOWS)
 
 
 if __name__ == "__main__":
