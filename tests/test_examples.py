@@ -96,6 +96,41 @@ FLOWS = '''
 True
 '''
 
+PRESS = '''
+>>> from foldandbound.press import ends, ends_with, kept_paper
+>>> ends((("a", 0, 5, 20), ("b", 9, 3, 15)), ("a", "b"))
+[5, 12]
+>>> ends_with((("a", 0, 5, 20), ("b", 9, 3, 15)), ("a", "b"), ((0, 6),))
+[11, 14]
+>>> kept_paper((("a", 0, 5, 20), ("b", 9, 3, 15)), ("a", "b"), 1, 4)
+('late', ((1, 4),))
+'''
+
+STAGES = '''
+>>> from foldandbound.stages import least_makespan
+>>> least_makespan((("a", 3, 2), ("b", 1, 4), ("c", 5, 1)))
+10
+'''
+
+COUNTERS = '''
+>>> from foldandbound.counters import ranges, told_bounds
+>>> told_bounds([7], 2)
+((-1, 0, 9), (0, -1, -5))
+>>> ranges(2, told_bounds([7, 9], 2) + ((1, 0, 0), (0, 1, 1)))
+[(6, 9), (7, 10)]
+'''
+
+COSTS_AND_LINES = '''
+>>> from foldandbound.costs import shares
+>>> shares(100, [1, 1, 1])
+[34, 33, 33]
+>>> from foldandbound.lines import badness, best_lines
+>>> best_lines([3, 2, 2, 5], 6)
+[1, 2, 1]
+>>> badness([3, 2, 2, 5], 6, [2, 1, 1])
+16
+'''
+
 
 class TestExamples(ShopCase):
     def holds(self, text):
@@ -140,6 +175,18 @@ class TestExamples(ShopCase):
 
     def test_flows(self):
         self.holds(FLOWS)
+
+    def test_press(self):
+        self.holds(PRESS)
+
+    def test_stages(self):
+        self.holds(STAGES)
+
+    def test_counters(self):
+        self.holds(COUNTERS)
+
+    def test_costs_and_lines(self):
+        self.holds(COSTS_AND_LINES)
 
 
 if __name__ == "__main__":
