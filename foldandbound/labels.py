@@ -98,10 +98,10 @@ def best_runs(labels, slots, plates):
 
     The runs of the second one are 0 if it is not needed.
     """
-    if least_plates(labels, slots) > plates:
+    if len(labels) > slots * plates:
         return None
     best = (max(labels), max(labels))
-    if least_plates(labels, slots) == 1:
+    if len(labels) <= slots:
         best = (least_runs(labels, slots), 0)
     if plates == 1:
         return best

@@ -171,6 +171,9 @@ class TestFewest(ShopCase):
                 self.same(fewest_sheets(labels, slots, told) is None, told < plates, (many, slots))
                 self.same(best_printing(labels, slots, told) is None, told < plates, (many, slots))
         self.same(least_plates((5, 5), 1), 2)
+        self.same(fewest_sheets((5,), 0, 2), None)
+        self.same(best_printing((5,), 0, 1), None)
+        self.false(is_printing((5,), 0, (((), 5),)))
 
 
 class TestSoon(ShopCase):
