@@ -45,6 +45,11 @@ def is_word(value):
     return all(letter in LETTERS for letter in value)
 
 
+def is_ascending(values):
+    """Tell whether values that can be compared ascend strictly."""
+    return all(low < high for low, high in zip(values, values[1:]))
+
+
 def is_same(value, wanted):
     """Tell whether any value is the wanted one, of the same kinds throughout.
 

@@ -62,6 +62,14 @@ def is_plate(size, value):
     return all(is_tuple_of(row, columns) and all(is_face(face) for face in row) for row in value)
 
 
+def is_any_plate(value):
+    """Tell whether any value is a plate for some size."""
+    if type(value) is not tuple or not value or type(value[0]) is not tuple:
+        return False
+    size = (len(value), len(value[0]))
+    return is_size(size) and is_plate(size, value)
+
+
 def is_lay(size, value):
     """Tell whether any value is a lay for a size."""
     return is_tuple_of(value, 2) and is_plate(size, value[0]) and is_plate(size, value[1])
