@@ -131,6 +131,48 @@ COSTS_AND_LINES = '''
 16
 '''
 
+GRIDS = '''
+>>> from foldandbound.grids import spread, traps
+>>> spread(((0, 0, 0), (0, 0, 1)), 1)
+((0, 1, 1), (0, 1, 1))
+>>> traps(((1, 1, 0),), ((0, 0, 1),), ((1, 1, 0),), ((0, 0, 1),), 1)
+('gap', (-1, -1), (0, 2))
+'''
+
+# Here `J` is the job book of the example of jobs.py.
+TEXTS = JOBS.split("\n")[1] + '''
+>>> from foldandbound.texts import write_flow, write_job, write_plate
+>>> write_job(J).split("\\n")[:3]
+['sheet book 1x2', 'print book p', 'turn book turn']
+>>> write_plate((((1, 0), (0, 0)), ((3, 1), (4, 0))))
+'1 0 / 3* 4'
+'''
+
+HANDLINGS = '''
+>>> from foldandbound.handlings import handlings_to
+>>> handlings_to((1, 2), ((0, 0, 0, 0, 0), (0, 0, 1, 0, 0)))
+(('halve', 'column'),)
+'''
+
+INKS = '''
+>>> from foldandbound.inks import fewest_plates
+>>> fewest_plates((1, 2), 4, {1: ("black",), 4: ("black", "red"), 2: ("black",)})
+3
+'''
+
+REELS = '''
+>>> from foldandbound.reels import fewest_reels
+>>> fewest_reels(10, (3, 4, 6), (2, 2, 1))
+2
+'''
+
+DAYS = '''
+>>> from foldandbound.days import can_be_held, most_failures_held
+>>> D = (4, (("a", 2, 0, 1, 4),), 1, 0)
+>>> can_be_held(D), most_failures_held(D)
+(True, 1)
+'''
+
 
 class TestExamples(ShopCase):
     def holds(self, text):
@@ -187,6 +229,24 @@ class TestExamples(ShopCase):
 
     def test_costs_and_lines(self):
         self.holds(COSTS_AND_LINES)
+
+    def test_grids(self):
+        self.holds(GRIDS)
+
+    def test_texts(self):
+        self.holds(TEXTS)
+
+    def test_handlings(self):
+        self.holds(HANDLINGS)
+
+    def test_inks(self):
+        self.holds(INKS)
+
+    def test_reels(self):
+        self.holds(REELS)
+
+    def test_days(self):
+        self.holds(DAYS)
 
 
 if __name__ == "__main__":
